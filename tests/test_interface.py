@@ -1,0 +1,39 @@
+import importlib
+import inspect
+import unittest
+
+ARGUMENTS = {
+    "censers.ways": {
+        "is_way": ["row"],
+        "woods": ["way"],
+        "alike": ["way", "one", "other"],
+        "lots": ["way"],
+        "way_by": ["lists"],
+        "way_of": ["numbers"],
+        "joined": ["one", "other"],
+        "met": ["one", "other"],
+        "lies_within": ["one", "other"],
+        "turned": ["way", "order"],
+    },
+    "censers.ranks": {
+        "many": ["censers"],
+        "many_of": ["censers", "count"],
+        "number": ["way"],
+        "by_number": ["censers", "number"],
+        "following": ["way"],
+    },
+}
+
+
+class Interface(unittest.TestCase):
+    def test_names_and_arguments(self):
+        for module, defs in ARGUMENTS.items():
+            for name, arguments in defs.items():
+                with self.subTest(module=module, name=name):
+                    told = inspect.signature(getattr(importlib.import_module(module), name)).parameters
+                    self.assertEqual(list(told), arguments)
+                    self.assertTrue(all(one.default is one.empty for one in told.values()))
+
+
+if __name__ == "__main__":
+    unittest.main()
