@@ -1,5 +1,6 @@
 import importlib
 import inspect
+import operator
 import unittest
 
 ARGUMENTS = {
@@ -22,6 +23,30 @@ ARGUMENTS = {
         "by_number": ["censers", "number"],
         "following": ["way"],
     },
+    "censers.marks": {
+        "lie": ["way", "lot", "other"],
+        "heights": ["way"],
+        "mark": ["way"],
+        "read_mark": ["text"],
+    },
+    "censers.steps": {
+        "joinings": ["way"],
+        "partings": ["way"],
+        "steps": ["one", "other"],
+        "path": ["one", "other"],
+    },
+    "censers.shifts": {
+        "overlap": ["one", "other"],
+        "kept": ["one", "other"],
+        "moved": ["one", "other"],
+    },
+    "censers.tray": {
+        "Tray": ["woods"],
+        "Tray.all_woods": ["self"],
+        "Tray.packets": ["self", "name"],
+        "Tray.total": ["self"],
+        "Tray.less": ["self", "name"],
+    },
 }
 
 
@@ -30,7 +55,8 @@ class Interface(unittest.TestCase):
         for module, defs in ARGUMENTS.items():
             for name, arguments in defs.items():
                 with self.subTest(module=module, name=name):
-                    told = inspect.signature(getattr(importlib.import_module(module), name)).parameters
+                    there = operator.attrgetter(name)(importlib.import_module(module))
+                    told = inspect.signature(there).parameters
                     self.assertEqual(list(told), arguments)
                     self.assertTrue(all(one.default is one.empty for one in told.values()))
 
