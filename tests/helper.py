@@ -1,7 +1,14 @@
-"""What several tests share: ways and links told by the document's words alone, without the program."""
+"""What several tests share: ways, links, sayings and papers told by the document's words alone, and listeners' sayings.
+
+Only what makes a Sayings draws on the program.
+"""
 
 import functools
 import itertools
+import random
+
+from censers.errors import CenserError
+from censers.sayings import Sayings
 
 FAR = (10 ** 31, -10 ** 31, 10 ** 5000, -10 ** 5000)
 
@@ -85,3 +92,116 @@ def closed(linked):
         if wider == linked:
             return linked
         linked = wider
+
+
+def all_sayings(censers):
+    """All sayings of so many censers."""
+    twos = [(one, other) for one, other in pairs(censers) if one != other]
+    found = [(word, one, other) for word in ("alike", "unlike") for one, other in twos]
+    return found + [(word, many) for word in ("least", "most") for many in range(1, censers + 1)]
+
+
+def bad_sayings(censers):
+    """Rows that are no sayings of so many censers for another reason than a censer outside."""
+    found = [(), ("alike",), ("alike", 0), ("alike", 0, 1, 2), ("unlike",), ("unlike", 0), ("unlike", 0, 1, 1)]
+    found += [("least",), ("least", 1, 1), ("most",), ("most", 1, 0), ("same", 0, 1), ("Alike", 0, 1), ("", 0, 1)]
+    found += [("alike ", 0, 1), ("exactly", 1), ("few",), ("ring", 0, 1)]
+    found += [(word, many) for word in ("least", "most") for many in (0, -1, censers + 1, 10) + FAR]
+    same = (0, censers - 1, censers, 10, -1) + FAR
+    return found + [(word, censer, censer) for word in ("alike", "unlike") for censer in same]
+
+
+def outside_sayings(censers):
+    """Sayings of so many censers with a censer outside, in the first place, in the second, in both."""
+    found = []
+    for word in ("alike", "unlike"):
+        for bad in (-1, censers, censers + 1) + FAR:
+            found += [(word, bad, 0), (word, 0, bad), (word, bad, bad + 1)]
+    return found
+
+
+def fits_saying(way, saying):
+    """Whether the way fits the saying, read off the words of the document."""
+    word, *things = saying
+    if word in ("alike", "unlike"):
+        return (way[things[0]] == way[things[1]]) == (word == "alike")
+    return len(set(way)) >= things[0] if word == "least" else len(set(way)) <= things[0]
+
+
+def fitting(censers, sayings):
+    """All ways that fit the sayings, in their order."""
+    return [way for way in rows_of(censers) if all(fits_saying(way, saying) for saying in sayings)]
+
+
+def things_of(sayings, word):
+    """What stands behind this word in the sayings."""
+    return [tuple(saying[1:]) for saying in sayings if saying[0] == word]
+
+
+def ties(censers, sayings):
+    """The pairs of censers that alike sayings link, each one with itself too."""
+    alike = things_of(sayings, "alike")
+    return closed({(k, k) for k in range(censers)} | set(alike) | {(m, k) for k, m in alike})
+
+
+def is_crowd(censers, sayings, row):
+    """Whether the row has more censers than some most, none twice, each two of them told apart."""
+    unlike, tied = things_of(sayings, "unlike"), ties(censers, sayings)
+    if len(set(row)) != len(row) or not set(row) <= set(range(censers)):
+        return False
+    apart = {(k, m) for one, other in unlike for k, m in pairs(censers) if {(k, one), (m, other)} <= tied}
+    told_apart = all((k, m) in apart or (m, k) in apart for k, m in itertools.combinations(row, 2))
+    return told_apart and any(len(row) > many for many, in things_of(sayings, "most"))
+
+
+def is_paper(censers, sayings, paper):
+    """Whether the row is a paper that no way fits the sayings, walked row by row by the words of the document."""
+    word, *things = paper
+    leasts, mosts = things_of(sayings, "least"), things_of(sayings, "most")
+    tied = ties(censers, sayings)
+    if word == "ring" and len(things) == 2:
+        unlike = things_of(sayings, "unlike")
+        return (tuple(things) in unlike or tuple(things[::-1]) in unlike) and tuple(things) in tied
+    if word == "counts" and len(things) == 0:
+        return any(least > most for least in leasts for most in mosts)
+    if word == "few" and len(things) == 0:
+        lots = {frozenset(m for m in range(censers) if (k, m) in tied) for k in range(censers)}
+        return any(len(lots) < least for least, in leasts)
+    if word == "many" and len(things) == 1:
+        return is_crowd(censers, sayings, things[0])
+    if word == "cases" and len(things) == 4:
+        one, other, first, second = things
+        return (one != other and {one, other} <= set(range(censers))
+                and is_paper(censers, sayings + [("alike", one, other)], first)
+                and is_paper(censers, sayings + [("unlike", one, other)], second))
+    return False
+
+
+def made(censers, said):
+    """Sayings with these said."""
+    sayings = Sayings(censers)
+    for saying in said:
+        sayings.say(saying)
+    return sayings
+
+
+def some_made(censers, turns, seed):
+    """Sayings said, as far as they are taken, and withdrawn at random, in so many turns; the same in each run."""
+    source = random.Random(seed)
+    sayings = Sayings(censers)
+    # Of two censers there are far more sayings than of counts.
+    choice = all_sayings(censers) + all_sayings(censers)[-2 * censers:] * (censers // 3)
+    for turn in range(turns):
+        if sayings.standing() and source.random() < 0.2:
+            sayings.withdraw(source.choice(sayings.standing())[0])
+        else:
+            try:
+                sayings.say(source.choice(choice))
+            except CenserError:
+                continue
+    return sayings
+
+
+def rows_said(sayings):
+    """The standing sayings without their numbers."""
+    return [saying for number, saying in sayings.standing()]

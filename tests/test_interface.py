@@ -47,6 +47,37 @@ ARGUMENTS = {
         "Tray.total": ["self"],
         "Tray.less": ["self", "name"],
     },
+    "censers.chances": {
+        "row_chance": ["tray", "names"],
+        "chance": ["tray", "way"],
+        "chance_behind": ["tray", "opened", "way"],
+        "chance_of": ["tray", "censers", "count"],
+        "likeliest": ["tray", "censers"],
+    },
+    "censers.cases": {
+        "settled": ["censers", "sayings"],
+        "shows": ["censers", "sayings", "paper"],
+    },
+    "censers.sayings": {
+        "Sayings": ["censers"],
+        "Sayings.censers": ["self"],
+        "Sayings.say": ["self", "saying"],
+        "Sayings.withdraw": ["self", "number"],
+        "Sayings.said": ["self"],
+        "Sayings.standing": ["self"],
+        "Sayings.chain": ["self", "one", "other"],
+        "Sayings.told": ["self", "one", "other"],
+        "Sayings.why": ["self", "one", "other"],
+        "Sayings.twin": ["self"],
+    },
+    "censers.fits": {
+        "fits": ["sayings"],
+        "fit": ["sayings", "number"],
+        "fit_number": ["sayings", "way"],
+        "by_woods": ["sayings"],
+        "fewest": ["sayings"],
+        "most": ["sayings"],
+    },
 }
 
 
