@@ -1,8 +1,8 @@
 """The ways that fit a listener's standing sayings: counted, numbered, with the fewest and the most woods."""
 
-from censers.errors import BadNumber, BadWay
-from censers.gist import gist_of, suits
-from censers.ways import check_way
+from censers.errors import BadNumber
+from censers.gist import gist_of
+from censers.ways import check_way_of
 
 
 class Placing:
@@ -12,8 +12,7 @@ class Placing:
     A wood is kept as a number whose bit k tells that lot k may not come into it.
     """
 
-    def __init__(self, sayings):
-        gist = gist_of(sayings.censers(), [saying for number, saying in sayings.standing()])
+    def __init__(self, gist):
         homes = gist.homes()
         walls = gist.walls()
         self.labels = gist.labels
@@ -57,9 +56,14 @@ class Placing:
         return tuple([chosen[self.firsts.index(label)] for label in self.labels])
 
 
+def placing_by(sayings):
+    """The lots of the listener's standing sayings, to be placed."""
+    return Placing(gist_of(sayings.censers(), sayings.rows()))
+
+
 def by_woods(sayings):
     """How many ways that fit have one wood, two, and so on to as many as there are censers."""
-    placing = Placing(sayings)
+    placing = placing_by(sayings)
     counts = placing.endings(0, [])
     return [counts.get(many, 0) if placing.low <= many <= placing.high else 0
             for many in range(1, sayings.censers() + 1)]
@@ -72,7 +76,7 @@ def fits(sayings):
 
 def fit(sayings, number):
     """The way that fits of this number."""
-    placing = Placing(sayings)
+    placing = placing_by(sayings)
     if not 0 <= number < placing.fitting(0, []):
         raise BadNumber("no way that fits has this number")
     ahead = number
@@ -92,12 +96,10 @@ def fit(sayings, number):
 
 def fit_number(sayings, way):
     """The number of the way among those that fit, or None where it does not fit."""
-    check_way(way)
-    if len(way) != sayings.censers():
-        raise BadWay("the way is of another count of censers")
-    if not all([suits(way, saying) for number, saying in sayings.standing()]):
+    check_way_of(sayings.censers(), way)
+    if not sayings.suited(way):
         return None
-    placing = Placing(sayings)
+    placing = placing_by(sayings)
     ahead = 0
     shut = []
     for lot, home in enumerate(placing.firsts):

@@ -50,8 +50,8 @@ class Gist:
             self.unlikes[(first, saying[2])] = True
             self.unlikes[(saying[2], first)] = True
         else:
-            # A new list, as gists may share the old one.
             low, high = sorted([self.labels[first], self.labels[saying[2]]])
+            # A new list, as gists may share the old one.
             self.labels = relabelled(self.labels, high, low)
 
     def longer(self, saying):

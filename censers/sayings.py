@@ -2,7 +2,7 @@
 
 from censers.cases import settled
 from censers.errors import Clash, NoFit, NoSaying, Withdrawn
-from censers.gist import check_saying
+from censers.gist import check_saying, suits
 from censers.ways import check_censer, check_many
 
 
@@ -41,9 +41,17 @@ class Sayings:
         """The pairs of number and saying that stand, lesser numbers first."""
         return [(number, saying) for number, saying in enumerate(self.given) if saying is not None]
 
+    def rows(self):
+        """The sayings that stand, without their numbers."""
+        return [saying for saying in self.given if saying is not None]
+
+    def suited(self, way):
+        """Whether the way, of as many censers, fits all sayings that stand."""
+        return all([suits(way, saying) for saying in self.rows()])
+
     def settled_with(self, saying):
         """As settled, for the standing sayings with one more behind them."""
-        return settled(self.size, [stands for number, stands in self.standing()] + [saying])
+        return settled(self.size, self.rows() + [saying])
 
     def say(self, saying):
         """Say the saying; its number."""

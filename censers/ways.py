@@ -31,12 +31,17 @@ def check_way(way):
         raise BadWay("the row is no way")
 
 
+def check_way_of(censers, way):
+    """Refuse a row that is no way of so many censers."""
+    check_way(way)
+    if len(way) != censers:
+        raise BadWay("the way is of another count of censers")
+
+
 def check_two_ways(one, other):
     """Refuse two rows that are not ways of as many censers."""
     check_way(one)
-    check_way(other)
-    if len(one) != len(other):
-        raise BadWay("the ways are of unlike counts of censers")
+    check_way_of(len(one), other)
 
 
 def check_censer(censers, censer):

@@ -1,11 +1,14 @@
-"""What several tests share: ways, links, sayings and papers told by the document's words alone, and listeners' sayings.
+"""What several tests share: ways, chances, sayings and papers told by the document's words, and listeners' sayings.
 
-Only what makes a Sayings draws on the program.
+Only what makes a Sayings draws on the program; of a tray no more is asked than what it has.
 """
 
+import copy
 import functools
 import itertools
+import math
 import random
+from fractions import Fraction
 
 from censers.errors import CenserError
 from censers.sayings import Sayings
@@ -92,6 +95,53 @@ def closed(linked):
         if wider == linked:
             return linked
         linked = wider
+
+
+def told(share):
+    """The share as a pair."""
+    return (share.numerator, share.denominator)
+
+
+def names_of(tray):
+    """The names of the tray's woods."""
+    return [name for name, packets in tray.all_woods()]
+
+
+def filled(tray, names):
+    """The chance of the row of names, one packet behind another."""
+    left, share = dict(tray.all_woods()), Fraction(1)
+    for name in names:
+        share *= Fraction(left[name], sum(left.values()))
+        if share == 0:
+            return share
+        left[name] -= 1
+    return share
+
+
+def pattern(names):
+    """The way of a row of names: each one's place among those that are new."""
+    fresh = list(dict.fromkeys(names))
+    return tuple(fresh.index(name) for name in names)
+
+
+@functools.cache
+def shares(tray, opened, censers):
+    """The chance of each way behind the opening, by all rows of names; no way without a chance."""
+    found = {}
+    for names in itertools.product(names_of(tray), repeat=censers - len(opened)):
+        way = pattern(opened + names)
+        found[way] = found.get(way, 0) + filled(tray, names)
+    return {way: share for way, share in found.items() if share}
+
+
+def by_choices(tray, opened, way):
+    """The chance of the way behind the opening, by all choices of a wood for each lot."""
+    left, total = dict(tray.all_woods()), 0
+    shut = way[len(opened):]
+    for woods in itertools.permutations(left, max(way) + 1):
+        if all(woods[lot] == name for lot, name in zip(way, opened)):
+            total += math.prod(math.perm(left[name], shut.count(lot)) for lot, name in enumerate(woods))
+    return Fraction(total, math.perm(tray.total(), len(shut)))
 
 
 def all_sayings(censers):
@@ -205,3 +255,17 @@ def some_made(censers, turns, seed):
 def rows_said(sayings):
     """The standing sayings without their numbers."""
     return [saying for number, saying in sayings.standing()]
+
+
+def outlook(room):
+    """All that the room tells, but by hope and best."""
+    facts = [room.tray().all_woods(), room.listeners(), room.standings(), room.under_way()]
+    facts += [room.points(name) for name in room.listeners()]
+    facts += [room.gone_by(number) for number in range(room.rounds())]
+    if room.under_way():
+        facts += [room.censers(), room.opened()]
+        for name in room.listeners():
+            sayings = room.sayings(name)
+            facts += [sayings.standing(), sayings.said(), sayings.censers(), room.written(name)]
+    # A list that the room should keep to itself may be changed behind this.
+    return copy.deepcopy(facts)

@@ -242,8 +242,8 @@ class Shows(unittest.TestCase):
             if word == "way":
                 continue
             kinds.add(paper[0])
-            texts = [()] + [(text,) + paper[1:] for text in ("", "rings", "Counts", "way", "none", "case", "alike", "few ")]
-            counts = [paper + (0,), paper + (("counts",),), paper + paper, paper[:1] + paper]
+            texts = [(text,) + paper[1:] for text in ("", "rings", "Counts", "way", "none", "case", "alike", "few ")]
+            counts = [(), paper + (0,), paper + (("counts",),), paper + paper, paper[:1] + paper]
             counts += [paper[:length] for length in range(1, len(paper))]
             for spoilt in texts + counts:
                 self.assertIs(shows(5, sayings, spoilt), False, (sayings, spoilt))

@@ -1,13 +1,11 @@
-import functools
 import itertools
-import math
 import unittest
 from fractions import Fraction
 
 from censers.chances import chance, chance_behind, chance_of, likeliest, row_chance
 from censers.errors import BadMany, BadWay, NoWood, TooFew
 from censers.tray import Tray
-from tests.helper import BAD_WAYS, FAR, some_ways, ways_of
+from tests.helper import BAD_WAYS, FAR, by_choices, filled, names_of, pattern, shares, some_ways, told, ways_of
 
 ONE = Tray([("oak", 9)])
 TWO = Tray([("aloe", 3), ("cedar", 1)])
@@ -19,52 +17,6 @@ LONE = Tray([("a", 1), ("b", 1), ("c", 1), ("d", 1), ("e", 1), ("f", 1)])
 BARE = Tray([("a", 0), ("b", 0)])
 SMALL = (ONE, TWO, THREE, EVEN, LONE)
 STRANGE = ("", "ash", "oaks", "oa", "OAK", "a" * 13)
-
-
-def told(share):
-    """The share as a pair."""
-    return (share.numerator, share.denominator)
-
-
-def names_of(tray):
-    return [name for name, packets in tray.all_woods()]
-
-
-def filled(tray, names):
-    """The chance of the row of names, one packet behind another."""
-    left, share = dict(tray.all_woods()), Fraction(1)
-    for name in names:
-        share *= Fraction(left[name], sum(left.values()))
-        if share == 0:
-            return share
-        left[name] -= 1
-    return share
-
-
-def pattern(names):
-    """The way of a row of names: each one's place among those that are new."""
-    fresh = list(dict.fromkeys(names))
-    return tuple(fresh.index(name) for name in names)
-
-
-@functools.cache
-def shares(tray, opened, censers):
-    """The chance of each way behind the opening, by all rows of names; no way without a chance."""
-    found = {}
-    for names in itertools.product(names_of(tray), repeat=censers - len(opened)):
-        way = pattern(opened + names)
-        found[way] = found.get(way, 0) + filled(tray, names)
-    return {way: share for way, share in found.items() if share}
-
-
-def by_choices(tray, opened, way):
-    """The chance of the way behind the opening, by all choices of a wood for each lot."""
-    left, total = dict(tray.all_woods()), 0
-    shut = way[len(opened):]
-    for woods in itertools.permutations(left, max(way) + 1):
-        if all(woods[lot] == name for lot, name in zip(way, opened)):
-            total += math.prod(math.perm(left[name], shut.count(lot)) for lot, name in enumerate(woods))
-    return Fraction(total, math.perm(tray.total(), len(shut)))
 
 
 class Rows(unittest.TestCase):
@@ -324,7 +276,8 @@ class Behind(unittest.TestCase):
                         with self.assertRaises(TooFew):
                             chance_behind(tray, names_of(tray)[:1] * length, way)
                 just = names_of(tray)[:1] * (censers - tray.total())
-                self.assertEqual(chance_behind(tray, just, (0,) * censers), told(by_choices(tray, just, (0,) * censers)))
+                way = (0,) * censers
+                self.assertEqual(chance_behind(tray, just, way), told(by_choices(tray, just, way)))
 
     def test_the_opening_stays(self):
         opened = ["z", "oak"]

@@ -20,6 +20,11 @@ WORDS = (
     r"\b(type|typing|typing_extensions|enum|Enum|IntEnum|StrEnum|Flag|IntFlag|Generic|Protocol|ABC|ABCMeta|"
     r"namedtuple|NamedTuple|TypedDict|TYPE_CHECKING|abstractmethod)\b|dataclass|overload|contextmanager"
 )
+CALLED = set(
+    "append clear copy count endswith extend find get index insert isalnum isalpha isdigit islower isspace isupper "
+    "items join keys ljust lower lstrip partition pop remove replace reverse rfind rjust rpartition rsplit rstrip "
+    "setdefault split splitlines startswith strip update upper values zfill bit_length".split()
+)
 BANNED = (
     ast.With, ast.Match, ast.Global, ast.Nonlocal, ast.Yield, ast.YieldFrom, ast.AsyncFunctionDef, ast.Await,
     ast.GeneratorExp, ast.NamedExpr, ast.Div, ast.MatMult, ast.Import,
@@ -108,6 +113,31 @@ class Language(unittest.TestCase):
             for node in nodes(path, ast.Name):
                 if hasattr(builtins, node.id):
                     self.assertIn(node.id, OWN_NAMES)
+
+    def test_methods_called_are_own_ones_or_plain(self):
+        own = {one.name for path in FILES for node in nodes(path, ast.ClassDef) for one in node.body
+               if isinstance(one, ast.FunctionDef)}
+        for path in FILES:
+            for node in nodes(path, ast.Call):
+                if isinstance(node.func, ast.Attribute):
+                    self.assertIn(node.func.attr, own | CALLED)
+
+    def test_sets_stand_where_they_may(self):
+        for path in FILES:
+            self.assertEqual(nodes(path, ast.Set, ast.SetComp), [])
+            inner = [inner for outer in nodes(path, ast.Call) for inner in outer.args
+                     if getattr(outer.func, "id", "") in ("len", "sorted")]
+            made = [node for node in nodes(path, ast.Call) if getattr(node.func, "id", "") in ("set", "frozenset")]
+            within = [node for node in inner if getattr(getattr(node, "func", None), "id", "") == "set"]
+            self.assertEqual(len(made), len(within))
+
+    def test_no_file_draws_from_one_that_draws_from_it(self):
+        drawn = {path.stem: {node.module.split(".")[-1] for node in nodes(path, ast.ImportFrom)} for path in FILES}
+        left = dict(drawn)
+        while left:
+            free = [name for name, sources in left.items() if not sources & set(left)]
+            self.assertNotEqual(free, [], left)
+            left = {name: sources for name, sources in left.items() if name not in free}
 
     def test_no_name_is_a_method_and_a_value(self):
         methods, values = set(), set()
